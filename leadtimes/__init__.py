@@ -1,0 +1,1 @@
+"""Leadtimes: runners on lines, who leads when, and papers that show it."""
