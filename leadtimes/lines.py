@@ -1,6 +1,6 @@
 """Lines: tuples (start, slope) of two numbers; runners are told by a list of them."""
 
-from leadtimes.numbers import difference_of, is_less, product_of, quotient_of, sum_of
+from leadtimes.numbers import difference_of, is_less, is_whole, product_of, quotient_of, sum_of
 
 
 def place_at(line, time):
@@ -23,17 +23,28 @@ def meeting(one, other):
     return ("at", quotient_of(gap, closing))
 
 
+def is_runner(lines, thing):
+    """Whether a thing of whatever kind is the number of a runner."""
+    return is_whole(thing) and 0 <= thing < len(lines)
+
+
+def standing(lines, runner, time):
+    """What tells who is ahead from a time on: a runner's place then, its slope and its number."""
+    return (place_at(lines[runner], time), lines[runner][1], runner)
+
+
+def stands_ahead(one, other):
+    """Whether the runner of one standing is ahead of that of another, both of one time."""
+    if one[0] != other[0]:
+        return is_less(other[0], one[0])
+    if one[1] != other[1]:
+        return is_less(other[1], one[1])
+    return one[2] < other[2]
+
+
 def is_ahead(lines, one, other, time):
     """Whether runner one is ahead of another runner from a time on."""
-    one_place = place_at(lines[one], time)
-    other_place = place_at(lines[other], time)
-    if one_place != other_place:
-        return is_less(other_place, one_place)
-    one_slope = lines[one][1]
-    other_slope = lines[other][1]
-    if one_slope != other_slope:
-        return is_less(other_slope, one_slope)
-    return one < other
+    return stands_ahead(standing(lines, one, time), standing(lines, other, time))
 
 
 def next_change(lines, one, other, time):

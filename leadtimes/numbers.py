@@ -65,3 +65,14 @@ def is_less(a, b):
     """Whether a is less than b."""
     # Bottoms are above 0, so multiplying by them keeps the order.
     return a[0] * b[1] < b[0] * a[1]
+
+
+def rising(numbers):
+    """Numbers in a new list, the lesser ones first."""
+    told = []
+    for number in numbers:
+        at = len(told)
+        while at > 0 and is_less(number, told[at - 1]):
+            at -= 1
+        told.insert(at, number)
+    return told

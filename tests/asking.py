@@ -11,15 +11,35 @@ def kind(thing):
     return type(thing)
 
 
+def spoil(thing):
+    """Changes every list in a thing, as one may who was told it or has handed it in."""
+    if isinstance(thing, (tuple, list)):
+        for part in thing:
+            spoil(part)
+    if isinstance(thing, list):
+        thing.append("spoilt")
+        thing.reverse()
+
+
 def ask(case, function, *things):
-    """What the function tells; nothing handed in is changed, asked again the same is told."""
+    """What the function tells, with promise 2 held.
+
+    Nothing handed in is changed; asked again the same is told, also when what was told first, and
+    what was handed in with it, was changed in between.
+    """
     kept = copy.deepcopy(things)
-    told = function(*things)
-    again = function(*copy.deepcopy(kept))
+    first = function(*things)
+    told = copy.deepcopy(first)
+    spoil(first)
+    handed = copy.deepcopy(kept)
+    second = function(*handed)
+    spoil(handed)
+    third = function(*things)
     case.assertEqual(things, kept)
     case.assertEqual(kind(things), kind(kept))
-    case.assertEqual(told, again)
-    case.assertEqual(kind(told), kind(again))
+    for again in (second, third):
+        case.assertEqual(told, again)
+        case.assertEqual(kind(told), kind(again))
     return told
 
 

@@ -3,6 +3,7 @@ import unittest
 from fractions import Fraction
 
 from asking import ask, fraction, line, number
+from exact import ahead_shortly_after, exact_meetings, exact_place, times_about
 from leadtimes.lines import is_ahead, line_through, meeting, next_change, place_at
 from leadtimes.numbers import is_number
 
@@ -16,37 +17,6 @@ LINES = [line(start, slope) for start in VALUES for slope in VALUES]
 RUNNERS = [line(0, 0), line(0, 0), line(2, 0), line(0, 1), line(2, -1), line(1, 0),
            line(Fraction(1, 2), HALF), line(0, 1), line(-SIXTY, BIG), line(Fraction(-1, 3), -2)]
 PAIRS = list(itertools.permutations(range(len(RUNNERS)), 2))
-
-
-def exact_place(told, time):
-    return fraction(told[0]) + fraction(told[1]) * time
-
-
-def exact_meetings(lines):
-    """Every time at which two of the lines meet but not always."""
-    times = []
-    for one, other in itertools.combinations(lines, 2):
-        apart = fraction(other[0]) - fraction(one[0])
-        closing = fraction(one[1]) - fraction(other[1])
-        if closing != 0:
-            times.append(apart / closing)
-    return sorted(set(times))
-
-
-def times_about(marks):
-    """Times ahead of, at, between and behind the marks."""
-    marks = sorted(set(marks) | {Fraction(0)})
-    between = [(one + other) / 2 for one, other in zip(marks, marks[1:])]
-    return sorted(marks + between + [marks[0] - 1, marks[-1] + 1])
-
-
-def ahead_shortly_after(lines, one, other, time):
-    """Who is ahead from a time on, by the places a little later, not by the slopes."""
-    later = [mark for mark in exact_meetings([lines[one], lines[other]]) if mark > time]
-    little_later = (time + later[0]) / 2 if later else time + 1
-    one_place = exact_place(lines[one], little_later)
-    other_place = exact_place(lines[other], little_later)
-    return one_place > other_place or (one_place == other_place and one < other)
 
 
 class Places(unittest.TestCase):
