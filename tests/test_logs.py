@@ -17,6 +17,15 @@ class Odd:
     """A thing that is like nothing else."""
 
 
+class LikeAll:
+    """A thing that says it is equal to whatever it is held against."""
+
+    def __eq__(self, other):
+        return True
+
+    __hash__ = object.__hash__
+
+
 class Case(unittest.TestCase):
     def refuse(self, thing, at):
         for turn_of_two in range(2):
@@ -99,7 +108,7 @@ class Wrong(Case):
 
     def test_another_word_and_no_text_as_word(self):
         for word in ("", "JOIN", "Join", "join ", " join", "joins", "pass", "deed", None, 0, True,
-                     ("join",), ["join"], b"join", 1.5, Odd(), {}):
+                     ("join",), ["join"], b"join", 1.5, Odd(), LikeAll(), {}):
             for deed in (join(9, 0, 0), leave(9, 1), turn(9, 1, 1)):
                 self.refuse_each([(word,) + deed[1:]])
 
@@ -115,7 +124,7 @@ class Wrong(Case):
                 (TOP + 1, 1), (-TOP - 1, 1), (10 ** 9 + 1, 7), (SIXTY, 1), (-SIXTY, 1),
                 (118, 13), (9, 13), (1, 100), (1, SIXTY), (-1, 14),
                 (True, 1), (9, True), (False, 1), (True, True), (9.0, 1), (9, 1.0), ("9", 1),
-                (9, None), (None, None), ((9, 1), (1, 1))]
+                (9, None), (None, None), ((9, 1), (1, 1)), LikeAll(), (LikeAll(), LikeAll())]
 
     def test_a_time_that_is_no_such_number(self):
         for value in self.no_numbers():
@@ -141,7 +150,7 @@ class Wrong(Case):
 
     def test_a_runner_that_is_no_whole_number(self):
         for runner in (None, True, False, "1", "", (1, 1), (1,), [1], 1.0, {}, Odd(), b"1",
-                       Fraction(1)):
+                       Fraction(1), LikeAll()):
             self.refuse([*self.GOOD, leave(9, runner)], 4)
             self.refuse([*self.GOOD, turn(9, runner, 1)], 4)
 
