@@ -34,10 +34,8 @@ def number_in(word):
     if len(parts) == 1:
         return None if top is None else (top, 1)
     bottom = whole_in(parts[1])
-    # A bottom of 1 is not written.
-    if top is None or bottom is None or bottom == 1 or not is_number((top, bottom)):
-        return None
-    return (top, bottom)
+    # A bottom of 1 is not written; None makes no number either.
+    return (top, bottom) if bottom != 1 and is_number((top, bottom)) else None
 
 
 def thing_in(kind, word):
